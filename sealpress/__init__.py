@@ -1,0 +1,1 @@
+"""Sealpress: pages pressed from sheets with holes, whose shape no value changes."""
