@@ -4,7 +4,7 @@ import unittest
 
 from sealpress.errors import NoCode
 from sealpress.marks import marked, unmarked
-from tests.texts_to_code import ALL, long_texts, made_texts, short_texts
+from tests.to_try import ALL, long_texts, made_texts, short_texts
 
 SHUTS = ["", "<", "\"", "&", "<&", "&<", "<>\"", "<<", "&&", "abc", " ", "\\~", "<a<&a&"]
 

@@ -3,7 +3,7 @@
 import unittest
 
 from sealpress.steps import begin, floored, run, step
-from tests.texts_to_code import ALL
+from tests.to_try import ALL
 
 LETTERS = "abcdefghijklmnopqrstuvwxyz"
 FIGURES = "0123456789"

@@ -5,17 +5,10 @@ import unittest
 
 from sealpress.errors import Unread
 from sealpress.steps import begin, floored, is_end, run, step
-from tests.texts_to_code import ALL, made_texts
+from tests.to_try import ALL, WHOLE, made_texts, some_states, walk
 
 MODES = sorted("""text open name slash shut gap attr is bang bare code row stroke quoted done talk mark qmark tmark
 asis""".split())
-SIGNS_OF_BOXES = "<>/ab asis:=!(\"',)\\~&;0123456789"
-WHOLE = [
-    "", "x", "a > b", "&27;", "<a/>", "<a></a>", "<a><a/></a>", "<a>x<b>y</b>z</a>w", "<asis><a></asis>",
-    "<a b:c/>", "<a b:/>", "<a b: c:~00></a>", "<a b(x,\\),)/>", "<a b()/>", "<a b=\"\" c=\"&02;\">t</a>",
-    "<a b!\"\"/>", "<a b!\"w 'said \\' &02;' w&06;x&06;\"/>", "<abcdefgh abcdefgh:x>&00;</abcdefgh>",
-    "<asis/>", "<asis b:c></</asis>", "<a><asis></a></asis></a>",
-]
 
 
 def outcome(state, text):
@@ -36,33 +29,6 @@ def stepped(state, text):
         state = answer[0]
         events += answer[1]
     return (state, events)
-
-
-def walk(source, state, length):
-    """A text that can be run through from a state."""
-    text = ""
-    for place in range(length):
-        signs = [sign for sign in source.choice([ALL, SIGNS_OF_BOXES, SIGNS_OF_BOXES])
-                 if step(state, sign) is not None]
-        if not signs:
-            break
-        text += source.choice(signs)
-        state = step(state, text[-1])[0]
-    return text
-
-
-def some_states():
-    """States of all modes, such as texts come to."""
-    source = random.Random(7)
-    states = {run(begin(), text[:cut])[0]: True for text in WHOLE for cut in range(len(text) + 1)}
-    for number in range(40):
-        for ahead in ["", "<a><b c=", "<a b=\"", "<a b(", "<asis>", "<b><asis></as", "<a b!\"'\\", "<a b!\"'\\&"]:
-            state = run(begin(), ahead)[0]
-            states[state] = True
-            for sign in walk(source, state, 25):
-                state = step(state, sign)[0]
-                states[state] = True
-    return list(states)
 
 
 class SomeStatesTest(unittest.TestCase):

@@ -4,7 +4,7 @@ import unittest
 
 from sealpress.errors import NoCode
 from sealpress.strokes import stroked, unstroked
-from tests.texts_to_code import ALL, long_texts, made_texts, short_texts
+from tests.to_try import ALL, long_texts, made_texts, short_texts
 
 SHUTS = ["", ",", ",)", "'", "\\", "\\,", ",\\)", ",,", "a", "0;", " ", "\\\\", ALL]
 

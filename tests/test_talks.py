@@ -3,7 +3,7 @@
 import unittest
 
 from sealpress.talks import feed
-from tests.texts_to_code import ALL
+from tests.to_try import ALL
 
 PLAIN = "abcdefghijklmnopqrstuvwxyz0123456789-"
 
