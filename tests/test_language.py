@@ -102,6 +102,16 @@ class LanguageTest(unittest.TestCase):
             for part in node.body:
                 self.assertIsInstance(part, (ast.FunctionDef, ast.Expr, ast.Pass), (name, node.name))
 
+    def test_no_name_is_a_method_and_a_value(self):
+        methods = {part.name for name, node in self.nodes(ast.ClassDef) for part in node.body
+                   if isinstance(part, ast.FunctionDef)}
+        values = {node.attr for name, node in self.nodes(ast.Attribute) if isinstance(node.ctx, ast.Store)}
+        self.assertEqual(methods & values, set())
+        own = set(dir(str) + dir(int) + dir(list) + dir(dict) + dir(set) + dir(bytes))
+        self.assertEqual((methods - SPECIAL) & own - METHODS - {"add", "discard"}, set())
+        self.assertEqual(values & own - {"count", "index", "title", "find", "join", "lower", "upper", "split", "strip",
+                                         "get", "copy", "add"}, set())
+
     def test_names(self):
         for name, tree in self.trees:
             drawn = [alias.name for node in tree.body if isinstance(node, ast.ImportFrom) for alias in node.names]

@@ -1,4 +1,4 @@
-"""What several tests try: texts, the reader's states, pages."""
+"""What several tests try: texts, the reader's states, pages, sheets."""
 
 import random
 
@@ -14,6 +14,7 @@ WHOLE = [
     "<a b!\"\"/>", "<a b!\"w 'said \\' &02;' w&06;x&06;\"/>", "<abcdefgh abcdefgh:x>&00;</abcdefgh>",
     "<asis/>", "<asis b:c></</asis>", "<a><asis></a></asis></a>",
 ]
+BRACE_WORDS = ["each", "if", "else", "end", "block", "elder", "draw", "over"]
 # things that are of no kind which is asked for
 OTHERS = [None, True, False, 0, 1, -1, 10 ** 30, "", "a", "text", (), ("text", ""), {}, {0: ("text", "")}, {"a": []}]
 
@@ -209,10 +210,9 @@ def wrong_pages():
                 ("Box", "a", []), (Unequal(),), Unequal(), (["out"],), ("boxes", "a", [])]:
         wrong += [([text, row], 1), ([text, row, text], 1), ([text, box, text, row, text, out, text], 3)]
     for row in [box, out, None, False, 0, "", "text", [], ["text", ""], {}, (), ("text",), ("text", "", ""),
-                ("Text", ""),
-                ("text", None), ("text", True), ("text", 1), ("text", []), ("text", ["x"]), ("text", ("x",)),
-                ("text", "\t"), ("text", "a" * 3000 + "%"), ("text", "\n"), (None, ""), (Unequal(), ""), Unequal(),
-                ("text", Unequal())]:
+                ("Text", ""), ("text", None), ("text", True), ("text", 1), ("text", []), ("text", ["x"]),
+                ("text", ("x",)), ("text", "\t"), ("text", "a" * 3000 + "%"), ("text", "\n"), (None, ""),
+                (Unequal(), ""), Unequal(), ("text", Unequal())]:
         wrong += [([row], 0), ([row] + whole[1:], 0), (whole[:2] + [row] + whole[3:], 2), (whole[:4] + [row], 4)]
     wrong += [([text, out], 1), ([text, out, text], 1), (whole + [out, text], 5), (whole + [out], 5)]
     wrong += [([text, ("box", name, []), text, out, text], 1) for name in NO_NAMES]
@@ -226,3 +226,66 @@ def wrong_pages():
     # of several faults the first one by its row is told
     wrong += [([text, box, ("text", "%"), out, None], 2), ([None, None], 0), ([text, text, None, None], 1)]
     return wrong
+
+
+def made_piece(source, depth, is_over, names):
+    """A piece within a block, where a sheet lies over another one; names are those that no block has yet."""
+    word = source.choice(["lit", "lit", "hole", "elder", "draw", "each", "if", "block"])
+    name = source.choice(["a", "lit", "hole", "abcdefgh", "x"])
+    if word == "draw":
+        return ("draw", source.choice(["a", "sheet"] + BRACE_WORDS))
+    if word == "elder" and is_over:
+        return ("elder",)
+    if depth and word == "block" and names:
+        return ("block", names.pop(), made_pieces(source, depth - 1, is_over, names))
+    if depth and word == "each":
+        return ("each", name, made_pieces(source, depth - 1, is_over, names))
+    if depth and word == "if":
+        first = made_pieces(source, depth - 1, is_over, names)
+        return ("if", name, first, made_pieces(source, depth - 1, is_over, names))
+    return ("hole", name) if word == "hole" else ("lit", made_text(source, 5) + source.choice("{}a <"))
+
+
+def made_pieces(source, depth, is_over, names):
+    """Pieces as they stand within a block, no two literals side by side."""
+    pieces = []
+    for number in range(source.randrange(5)):
+        piece = made_piece(source, depth, is_over, names)
+        if not (piece[0] == "lit" and pieces and pieces[-1][0] == "lit"):
+            pieces.append(piece)
+    return pieces
+
+
+def made_sheets(many):
+    """Tuples of over and pieces such as texts of at most 2000 signs tell."""
+    source = random.Random(many * 31)
+    sheets = []
+    while len(sheets) < many:
+        names = ["b", "block", "end", "elder", "over", "abcdefgh", "top"]
+        over = source.choice([None, "base", "over"])
+        if over is None:
+            pieces = made_pieces(source, 4, False, names)
+        else:
+            blocks = range(source.randrange(4))
+            pieces = [("block", names.pop(), made_pieces(source, 4, True, names)) for block in blocks if names]
+        if len(told_by(over, pieces)) <= 2000:
+            sheets.append((over, pieces))
+    return sheets
+
+
+def told_by(over, pieces, each_else=False):
+    """The text of a sheet, without an else that has nothing behind it, or with an else in each choice."""
+    text = "" if over is None else "{over " + over + "}"
+    for word, *rest in pieces:
+        if word == "lit":
+            text += rest[0].replace("{", "\n").replace("}", "{)}").replace("\n", "{(}")
+        elif word == "hole":
+            text += "{" + rest[0] + "}"
+        else:
+            text += "{" + " ".join([word] + rest[:1]) + "}"
+        if word in ("each", "if", "block"):
+            text += told_by(None, rest[1], each_else)
+            if word == "if" and (rest[2] or each_else):
+                text += "{else}" + told_by(None, rest[2], each_else)
+            text += "{end}"
+    return text
