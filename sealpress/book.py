@@ -11,7 +11,7 @@ class Book:
     """Sheets, each by a name."""
 
     def __init__(self):
-        # no sheet in here is handed out or changed, so that copies of the book may have the same ones
+        # no sheet in here is changed or handed to an asker, so that copies of the book may have the same ones
         self.kept = {}
 
     def tell(self, name, text):
@@ -27,11 +27,15 @@ class Book:
         """A list of the names, sorted."""
         return sorted(self.kept)
 
-    def sheet(self, name):
-        """The sheet of a name, the asker's own; refused with Unknown."""
+    def kept_sheet(self, name):
+        """The very sheet that is kept by a name, for the package alone and to be read only; refused with Unknown."""
         if name not in self.kept:
             raise Unknown(name)
-        found = self.kept[name]
+        return self.kept[name]
+
+    def sheet(self, name):
+        """The sheet of a name, the asker's own; refused with Unknown."""
+        found = self.kept_sheet(name)
         return Sheet(found.over, found.pieces)
 
     def copied(self):

@@ -1,7 +1,7 @@
 """Sheets: what a text of literal signs and words in braces tells."""
 
 from sealpress.errors import NoSheet, TooMany, Twice
-from sealpress.pieces import copied
+from sealpress.pieces import all_in, copied
 from sealpress.signs import is_name, need_text
 
 MOST_SIGNS = 2000
@@ -14,18 +14,6 @@ LONE_TOKENS = {"(": ("lit", "{"), ")": ("lit", "}"), "else": ("else",), "end": (
 OPENERS = ("each", "if", "block")
 
 
-def blocks_in(pieces):
-    """Each block in the pieces, at whatever depth, in the order of the text: its name, a copy of its pieces."""
-    found = []
-    for piece in pieces:
-        if piece[0] == "block":
-            found.append((piece[1], copied(piece[2])))
-        for part in piece:
-            if isinstance(part, list):
-                found.extend(blocks_in(part))
-    return found
-
-
 class Sheet:
     """A sheet: over, the name of the sheet over which it lies or None, and its pieces."""
 
@@ -35,7 +23,7 @@ class Sheet:
 
     def blocks(self):
         """A dict from each block's name to its pieces, in the order in which they are opened."""
-        return dict(blocks_in(self.pieces))
+        return dict([(piece[1], copied(piece[2])) for piece in all_in(self.pieces) if piece[0] == "block"])
 
 
 class Opened:

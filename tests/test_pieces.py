@@ -3,7 +3,7 @@
 import copy
 import unittest
 
-from sealpress.pieces import copied
+from sealpress.pieces import all_in, copied
 from tests.to_try import lists_in, made_sheets
 
 
@@ -64,6 +64,17 @@ class CopiedTest(unittest.TestCase):
         own[0][2].append(("hole", "mine"))
         self.assertEqual(own, [("if", "x", [("lit", "a"), ("hole", "mine")], [("lit", "a")]),
                                ("each", "y", [("lit", "a")])])
+
+
+class AllInTest(unittest.TestCase):
+    def test_each_piece_in_the_order_of_the_text(self):
+        pieces = [("if", "a", [("block", "b", [("hole", "c")]), ("lit", "d")], [("each", "e", [("draw", "f")])]),
+                  ("seat", "draw", "g", "", [("elder",)]), ("lit", "h")]
+        found = all_in(pieces)
+        self.assertEqual([piece[:2] for piece in found], [
+            ("if", "a"), ("block", "b"), ("hole", "c"), ("lit", "d"), ("each", "e"), ("draw", "f"), ("seat", "draw"),
+            ("elder",), ("lit", "h")])
+        self.assertEqual(all_in([]), [])
 
 
 if __name__ == "__main__":

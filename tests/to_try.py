@@ -1,7 +1,10 @@
-"""What several tests try: texts, the reader's states, pages, sheets."""
+"""What several tests try: texts, the reader's states, pages, sheets, books, laid pieces."""
 
+import copy
 import random
 
+from sealpress.book import Book
+from sealpress.errors import SealError
 from sealpress.steps import begin, run, step
 
 ALL = "".join([chr(number) for number in range(32, 127) if number != 37])
@@ -289,3 +292,146 @@ def told_by(over, pieces, each_else=False):
                 text += "{else}" + told_by(None, rest[2], each_else)
             text += "{end}"
     return text
+
+
+def refused_by(asked, *things):
+    """What is told where this is asked of these things; or a tuple of the refusal's name and its fields."""
+    try:
+        return asked(*things)
+    except SealError as refusal:
+        return (refusal.__class__.__name__,) + tuple(vars(refusal).values())
+
+
+def book_of(texts):
+    """A book of a dict of texts."""
+    book = Book()
+    for name, text in texts.items():
+        book.tell(name, text)
+    return book
+
+
+def loose_text(source, number, depth, blocks, is_over):
+    """What stands within a sheet, or a block of it; mostly later names are drawn, so that not all is in rings."""
+    text = ""
+    for part in range(source.randrange(4)):
+        word = source.choice(["lit", "hole", "draw", "elder", "elder", "block", "block", "each", "if"])
+        if word == "draw":
+            text += "{draw " + source.choice("abcde"[number + 1:] * 6 + "abcdef") + "}"
+        elif word == "elder" and is_over:
+            text += "{elder}"
+        elif word == "block" and depth and blocks:
+            text += "{block " + blocks.pop() + "}" + loose_text(source, number, depth - 1, blocks, is_over) + "{end}"
+        elif word in ("each", "if") and depth:
+            text += "{" + word + " y}" + loose_text(source, number, depth - 1, blocks, is_over)
+            if word == "if":
+                text += "{else}" + loose_text(source, number, depth - 1, blocks, is_over)
+            text += "{end}"
+        else:
+            text += source.choice(["{x}", "{y}", "1", "22", "<a/>"])
+    return text
+
+
+def loose_books(many):
+    """Dicts of texts of a few sheets, named a to e: in rings or not, some not there, with blocks p, q and r."""
+    source = random.Random(many * 17)
+    books = []
+    for book in range(many):
+        texts = {}
+        for number, name in enumerate("abcde"):
+            blocks = source.sample("pqr", 3)
+            if source.randrange(5) and name < "e" or not source.randrange(9):
+                over = source.choice("abcdef"[number + 1:-1] * 6 + "abcdef")
+                # a sheet over another one has blocks alone
+                text = "{over " + over + "}"
+                while blocks and source.randrange(4):
+                    text += "{block " + blocks.pop() + "}" + loose_text(source, number, 2, blocks, True) + "{end}"
+            else:
+                text = loose_text(source, number, 3, blocks, False)
+            if source.randrange(12):
+                texts[name] = text
+        books.append(texts)
+    return books
+
+
+# for each place: literals that leave the state as it is, and what leads from the place text to it and back
+NEUTRAL = {"text": ["x", "&27;", "<a/>", "<a b(,)>y</a>", "<asis><a></asis>"], "quoted": ["x", "&02;", "<>"],
+           "bare": ["x", "~00", "-0"], "row": ["x", ",", "\\)"], "said": ["x", "\\'", "&02;"]}
+AROUND = {"text": [("<a>", "</a>"), ("<b c:d>", "</b>")], "quoted": [("<a b=\"", "\"/>"), ("<a c:d e=\"", "\">y</a>")],
+          "bare": [("<a b:", ">z</a>"), ("<a b:x", "/>")], "row": [("<a b(", ")></a>"), ("<a b(,,", ") c:d/>")],
+          "said": [("<a b!\"'", "'\"/>"), ("<a b!\"w '", "' 'x' w\"></a>")]}
+# both branches come to one state, which isn't the one that they begin at
+BRANCHES = [("<a ", "b:x", "c:", "/>"), ("<a", " b(", " c(,", ")>x</a>"), ("<", "asis", "asis", ">y</asis>"),
+            ("", "<b>x", "<b><a/>", "</b>"), ("<a b!\"", "w 'x", "'", "'\"/>"),
+            ("<a b=\"", "&02;\"", "\"", ">&00;</a>")]
+
+
+def made_let_by(source, place, depth):
+    """Laid pieces that lead from a place back to it, and the holes in them with their places, in order."""
+    pieces, holes = [], []
+    for number in range(source.randrange(1, 5)):
+        name = source.choice("xyz")
+        word = source.choice(["lit", "hole", "hole", "around", "around", "branches", "each", "if", "seat"])
+        inner = made_let_by(source, place, depth - 1) if depth else ([], [])
+        if word == "hole":
+            pieces.append(("hole", name))
+            holes.append((name, place))
+        elif word == "around" and place == "text" and depth:
+            within = source.choice(list(AROUND))
+            begin_text, end_text = source.choice(AROUND[within])
+            inner = made_let_by(source, within, depth - 1)
+            pieces += [("lit", begin_text)] + inner[0] + [("lit", end_text)]
+            holes += inner[1]
+        elif word == "branches" and place == "text":
+            ahead, one, other, behind = source.choice(BRANCHES)
+            pieces += [("lit", ahead)] if ahead else []
+            pieces += [("if", name, [("lit", one)], [("lit", other)]), ("lit", behind)]
+        elif word == "each" and depth:
+            pieces.append(("each", name, inner[0]))
+            holes += inner[1]
+        elif word == "if" and depth:
+            second = source.choice([([], []), made_let_by(source, place, depth - 1)])
+            pieces.append(("if", name, inner[0], second[0]))
+            holes += inner[1] + second[1]
+        elif word == "seat" and depth:
+            seat = source.choice([("block", "s", "p"), ("elder", "t", "q"), ("draw", "u", ""), ("draw", "v", "")])
+            pieces.append(("seat",) + seat + (inner[0],))
+            holes += inner[1]
+        else:
+            pieces.append(("lit", source.choice(NEUTRAL[place])))
+    return (pieces, holes)
+
+
+def let_by(many):
+    """Tuples of laid pieces that are let by and of what looking tells of them."""
+    source = random.Random(many * 41)
+    return [made_let_by(source, "text", 3) for number in range(many)]
+
+
+def with_fault(source, pieces):
+    """The same pieces with one thing put otherwise somewhere, so that mostly they are no longer let by."""
+    own = copy.deepcopy(pieces)
+    found = source.choice([found for found in lists_in(own) if found or source.randrange(3)] or [own])
+    at = source.randrange(len(found) + 1)
+    word = source.choice(["gone", "lit", "hole", "less", "more", "seat", "each", "if"])
+    if at == len(found) or word in ("lit", "hole"):
+        odd = source.choice(["<", ">", "</a>", "<a>", "\"", "'", "&", "<a b=\"", "\\", "~", ")", "<asis>", "<b>", "/>"])
+        found.insert(at, ("hole", "z") if word == "hole" else ("lit", odd))
+    elif word == "gone":
+        found.pop(at)
+    elif found[at][0] == "lit" and word in ("less", "more"):
+        text = found[at][1]
+        cut = source.randrange(len(text))
+        found[at] = ("lit", text[:cut] + text[cut + (word == "less"):] + source.choice(["", "", "<", "x"]) or "x")
+    else:
+        # what leads to another state and back is mostly put asunder by this
+        stop = source.randrange(at, len(found)) + 1
+        part = found[at:stop]
+        around = {"each": ("each", "z", part), "if": ("if", "z", part, [])}
+        found[at:stop] = [around.get(word, ("seat", "draw", "w", "", part))]
+    return own
+
+
+def with_faults(many):
+    """Laid pieces of which most are refused."""
+    source = random.Random(many * 43)
+    return [with_fault(source, made_let_by(source, "text", source.randrange(1, 4))[0]) for number in range(many)]
