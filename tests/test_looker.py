@@ -8,7 +8,7 @@ from sealpress.looker import look
 from sealpress.places import place_of
 from sealpress.steps import begin, floored, is_end, run
 from sealpress.ways import state_at, walked
-from tests.to_try import let_by, lists_in, refused_by, with_faults
+from tests.to_try import let_by, lists_in, refused_by, right_look, with_faults
 
 X = ("hole", "x")
 SEAT = ("seat", "block", "s", "p")
@@ -28,67 +28,6 @@ def either(first, second):
 
 def seat(*pieces):
     return SEAT + (list(pieces),)
-
-
-def passed(pieces):
-    """The turns and the number of things on the way by all eaches, through first branches."""
-    turns, many = [], 0
-    for piece in pieces:
-        inner = {"if": piece[2:3], "seat": piece[4:]}.get(piece[0], ())
-        turns += [0] if piece[0] in ("each", "if") else []
-        many += {"lit": 1, "hole": 1, "seat": 2}.get(piece[0], 0)
-        for part in inner:
-            more = passed(part)
-            turns, many = turns + more[0], many + more[1]
-    return (turns, many)
-
-
-def place_by(pieces, path):
-    """The place ahead of the piece to which a path of numbers leads: by turns of a piece and of a list in it."""
-    turns, many = passed(pieces[:path[0]])
-    if len(path) == 1:
-        return (turns, many)
-    piece = pieces[path[0]]
-    turns += {"each": [1], "if": [path[1] - 2], "seat": []}[piece[0]]
-    inner = place_by(piece[path[1]], path[2:])
-    return (turns + inner[0], many + (piece[0] == "seat") + inner[1])
-
-
-def checks(pieces, path):
-    """Each piece with its path, in the order in which it is due to be refused."""
-    for number, piece in enumerate(pieces):
-        for at, part in enumerate(piece):
-            if isinstance(part, list):
-                yield from checks(part, path + [number, at])
-        yield (piece, path + [number])
-
-
-def right_look(pieces):
-    """What is told of the pieces, each place found anew by the path to it; or the refusal's name and fields."""
-    holes = []
-    for piece, path in checks(pieces, []):
-        place = place_by(pieces, path)
-        ends = [place_by(pieces, path + [at, len(part)]) for at, part in enumerate(piece) if isinstance(part, list)]
-        state = state_at(pieces, place)
-        if piece[0] == "lit":
-            answer = refused_by(run, state, piece[1])
-            if answer[0] == "Unread":
-                return ("Astray", place, answer[1])
-        elif piece[0] == "hole":
-            if place_of(state) is None:
-                return ("NoPlace", piece[1], place)
-            holes.append((piece[1], place_of(state)))
-        else:
-            what = piece[:4] if piece[0] == "seat" else piece[:2]
-            if piece[0] == "each":
-                ends.insert(0, (place[0] + [0], place[1]))
-            elif piece[0] == "seat":
-                ends.insert(0, (place[0], place[1] + 1))
-            if state_at(pieces, ends[0]) != state_at(pieces, ends[1]):
-                return ("Unlike", what, ends[0], ends[1])
-    if not is_end(state_at(pieces, passed(pieces))):
-        return ("LeftOpen", passed(pieces))
-    return holes
 
 
 class Fault(Exception):

@@ -5,7 +5,9 @@ import random
 
 from sealpress.book import Book
 from sealpress.errors import SealError
-from sealpress.steps import begin, run, step
+from sealpress.places import place_of
+from sealpress.steps import begin, is_end, run, step
+from sealpress.ways import state_at
 
 ALL = "".join([chr(number) for number in range(32, 127) if number != 37])
 PLAIN = "abcdefghijklmnopqrstuvwxyz0123456789-"
@@ -369,8 +371,8 @@ def made_let_by(source, place, depth):
     """Laid pieces that lead from a place back to it, and the holes in them with their places, in order."""
     pieces, holes = [], []
     for number in range(source.randrange(1, 5)):
-        name = source.choice("xyz")
         word = source.choice(["lit", "hole", "hole", "around", "around", "branches", "each", "if", "seat"])
+        name = source.choice({"each": "lm", "if": "ij", "branches": "ij"}.get(word, "xyz"))
         inner = made_let_by(source, place, depth - 1) if depth else ([], [])
         if word == "hole":
             pieces.append(("hole", name))
@@ -435,3 +437,156 @@ def with_faults(many):
     """Laid pieces of which most are refused."""
     source = random.Random(many * 43)
     return [with_fault(source, made_let_by(source, "text", source.randrange(1, 4))[0]) for number in range(many)]
+
+
+def passed(pieces):
+    """The turns and the number of things on the way by all eaches, through first branches."""
+    turns, many = [], 0
+    for piece in pieces:
+        inner = {"if": piece[2:3], "seat": piece[4:]}.get(piece[0], ())
+        turns += [0] if piece[0] in ("each", "if") else []
+        many += {"lit": 1, "hole": 1, "seat": 2}.get(piece[0], 0)
+        for part in inner:
+            more = passed(part)
+            turns, many = turns + more[0], many + more[1]
+    return (turns, many)
+
+
+def place_by(pieces, path):
+    """The place ahead of the piece to which a path of numbers leads: by turns of a piece and of a list in it."""
+    turns, many = passed(pieces[:path[0]])
+    if len(path) == 1:
+        return (turns, many)
+    piece = pieces[path[0]]
+    turns += {"each": [1], "if": [path[1] - 2], "seat": []}[piece[0]]
+    inner = place_by(piece[path[1]], path[2:])
+    return (turns + inner[0], many + (piece[0] == "seat") + inner[1])
+
+
+def checks(pieces, path):
+    """Each piece with its path, in the order in which it is due to be refused."""
+    for number, piece in enumerate(pieces):
+        for at, part in enumerate(piece):
+            if isinstance(part, list):
+                yield from checks(part, path + [number, at])
+        yield (piece, path + [number])
+
+
+def fault_at(pieces, piece, path):
+    """What is refused of a piece, each place found anew by the path to it: the refusal's name and fields; or None."""
+    place = place_by(pieces, path)
+    ends = [place_by(pieces, path + [at, len(part)]) for at, part in enumerate(piece) if isinstance(part, list)]
+    state = state_at(pieces, place)
+    if piece[0] == "lit":
+        answer = refused_by(run, state, piece[1])
+        return ("Astray", place, answer[1]) if answer[0] == "Unread" else None
+    if piece[0] == "hole":
+        return ("NoPlace", piece[1], place) if place_of(state) is None else None
+    if piece[0] == "each":
+        ends.insert(0, (place[0] + [0], place[1]))
+    elif piece[0] == "seat":
+        ends.insert(0, (place[0], place[1] + 1))
+    if state_at(pieces, ends[0]) == state_at(pieces, ends[1]):
+        return None
+    return ("Unlike", piece[:4] if piece[0] == "seat" else piece[:2], ends[0], ends[1])
+
+
+def right_look(pieces):
+    """What is told of the pieces, or the refusal's name and fields."""
+    holes = []
+    for piece, path in checks(pieces, []):
+        fault = fault_at(pieces, piece, path)
+        if fault is not None:
+            return fault
+        if piece[0] == "hole":
+            holes.append((piece[1], place_of(state_at(pieces, place_by(pieces, path)))))
+    if not is_end(state_at(pieces, passed(pieces))):
+        return ("LeftOpen", passed(pieces))
+    return holes
+
+
+def sound_text(source, place, depth, parts, blocks, elder):
+    """A part of a sheet that leads from a place back to it; at the place any it does so wherever it stands.
+
+    parts are the names that may be drawn, by whether they may stand anywhere; blocks the names that are left,
+    by the same; elder what stands for one, or nothing.
+    """
+    text = ""
+    for number in range(source.randrange(1, 5)):
+        word = source.choice("lit hole around around draw draw block block each if elder".split(" "))
+        kind = "any" if place != "text" or not source.randrange(4) else "text"
+        if word == "draw" and parts[kind]:
+            text += "{draw " + source.choice(parts[kind]) + "}"
+        elif word == "elder":
+            text += elder
+        elif word == "around" and place == "text" and depth:
+            within = source.choice(list(AROUND))
+            first, last = source.choice(AROUND[within])
+            text += first + sound_text(source, within, depth - 1, parts, blocks, "") + last
+        elif word == "block" and depth and blocks[kind]:
+            text += "{block " + blocks[kind].pop() + "}"
+            text += sound_text(source, kind, depth - 1, parts, blocks, "") + "{end}"
+        elif word == "each" and depth:
+            text += "{each " + source.choice("lm") + "}"
+            text += sound_text(source, place, depth - 1, parts, blocks, elder) + "{end}"
+        elif word == "if" and depth:
+            first, last = [sound_text(source, place, depth - 1, parts, blocks, elder) for branch in "12"]
+            text += "{if " + source.choice("ij") + "}" + first + source.choice(["", "{else}" + last]) + "{end}"
+        elif word == "hole":
+            text += "{" + source.choice("xyz") + "}"
+        else:
+            text += source.choice(NEUTRAL.get(place, ["x", "y", "0"]))
+    return text
+
+
+def sound_book(source):
+    """A dict of texts of sheets that are mostly let by: a over b over c, parts d over e, and f, g for any place."""
+    parts = {name: {"text": list(boxed_parts), "any": list(plain)} for name, boxed_parts, plain in
+             [("a", "de", "fg"), ("b", "de", "fg"), ("c", "de", "fg"), ("d", "f", "fg"), ("e", "f", "fg"),
+              ("f", "g", "g"), ("g", "", "")]}
+    texts = {"c": sound_text(source, "text", 3, parts["c"], {"text": ["p", "q"], "any": ["r", "s"]}, ""),
+             "e": sound_text(source, "text", 2, parts["e"], {"text": ["p"], "any": ["r"]}, ""),
+             "f": sound_text(source, "any", 2, parts["f"], {"text": [], "any": ["r"]}, ""),
+             "g": sound_text(source, "any", 2, parts["g"], {"text": [], "any": ["s"]}, "")}
+    for name, over, blocks in [("a", "b", "pqrs"), ("b", "c", "pqrs"), ("d", "e", "pr")]:
+        texts[name] = "{over " + over + "}"
+        have = book_of(texts).sheet({"a": "c", "b": "c", "d": "e"}[name]).blocks()
+        # blocks that the root doesn't have may bring elders that have nothing behind
+        for block in [block for block in blocks if block in have and source.randrange(3)]:
+            kind = "text" if block in "pq" else "any"
+            inner = sound_text(source, kind, 1, parts[name], {"text": [], "any": []}, "{elder}")
+            texts[name] += "{block " + block + "}" + inner + "{end}"
+    return texts
+
+
+def sound_books(many):
+    source = random.Random(many * 47)
+    return [sound_book(source) for number in range(many)]
+
+
+def made_data(source, depth, is_row=False):
+    """Data, or a row, in which all names have values, or some."""
+    names = [name for name in "xyzijlm" if not is_row or not source.randrange(3)]
+    data = {name: made_text(source, 8) for name in names if name in "xyz"}
+    data.update({name: source.choice([True, False]) for name in names if name in "ij"})
+    for name in [name for name in names if name in "lm" and (depth or not is_row)]:
+        many = source.choice([0, 1, 1, 2, 3]) if depth else 0
+        data[name] = [made_data(source, depth - 1, True) for row in range(many)]
+    return data
+
+
+def flat(pieces, scopes, seats=()):
+    """What the way of data comes to: tuples of the seats around, and ("lit", text) or ("hole", name, value)."""
+    for piece in pieces:
+        values = [scope[piece[1]] for scope in scopes if piece[1] in scope]
+        if piece[0] == "lit":
+            yield (seats, piece)
+        elif piece[0] == "hole":
+            yield (seats, piece + (values[-1],))
+        elif piece[0] == "each":
+            for row in values[-1]:
+                yield from flat(piece[2], scopes + [row], seats)
+        elif piece[0] == "if":
+            yield from flat(piece[2 if values[-1] else 3], scopes, seats)
+        else:
+            yield from flat(piece[4], scopes, seats + (piece[1:4],))
